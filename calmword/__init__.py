@@ -1,0 +1,1 @@
+"""Calmword: texts told without "again and again"."""

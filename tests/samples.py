@@ -1,0 +1,93 @@
+"""Machines for the tests, and plain ways to reckon what the program should tell."""
+
+import copy
+import itertools
+import random
+
+# Texts over a, b: with an even number of a; ending in ab; only the text ab; none; all.
+EVEN_A = ("ab", ((1, 0), (0, 1)), (True, False))
+ENDS_AB = ("ab", ((1, 0), (1, 2), (1, 0)), (False, False, True))
+JUST_AB = ("ab", ((1, 3), (3, 2), (3, 3), (3, 3)), (False, False, True, False))
+NONE = ("ab", ((0, 0),), (False,))
+EVERY = ("ab", ((0, 0),), (True,))
+
+
+def texts_to(letters, most):
+    """All texts with at most so many signs, in their order."""
+    return ["".join(signs) for n in range(most + 1) for signs in itertools.product(letters, repeat=n)]
+
+
+def read_plainly(machine, text, room=0):
+    letters, moves, yes = machine
+    for sign in text:
+        room = moves[room][letters.index(sign)]
+    return yes[room]
+
+
+def texts_of(machine, most, room=0):
+    """The texts with at most so many signs that lead from the room to yes, in order."""
+    return [text for text in texts_to(machine[0], most) if read_plainly(machine, text, room)]
+
+
+def made_machine(chance, letters, rooms):
+    moves = tuple(tuple(chance.randrange(rooms) for _ in letters) for _ in range(rooms))
+    return (letters, moves, tuple(chance.random() < 0.4 for _ in range(rooms)))
+
+
+def made_machines(seed, many, most_rooms=6, letters=("a", "ba", "ab", "xcm", "dbca")):
+    """The same machines each time, of one room or more, over letters in several orders."""
+    chance = random.Random(seed)
+    return [made_machine(chance, chance.choice(letters), chance.randint(1, most_rooms)) for _ in range(many)]
+
+
+def ring(rooms, yes_rooms=(0,), letters="a"):
+    """Every letter leads one room on, the last room's to room 0."""
+    moves = tuple(((room + 1) % rooms,) * len(letters) for room in range(rooms))
+    return (letters, moves, tuple(room in yes_rooms for room in range(rooms)))
+
+
+def chain(rooms, yes_rooms, letters="a"):
+    """Every letter leads one room on; the last room leads to itself."""
+    moves = tuple((min(room + 1, rooms - 1),) * len(letters) for room in range(rooms))
+    return (letters, moves, tuple(room in yes_rooms for room in range(rooms)))
+
+
+def spoil(answer):
+    """Changes whatever can be changed in an answer."""
+    if isinstance(answer, list):
+        answer.reverse()
+        answer.append("spoilt")
+    elif isinstance(answer, tuple):
+        for part in answer:
+            spoil(part)
+
+
+def holds_to_point_2(test, function, *things):
+    """What is handed in stays as it was; answers are new ones and stay the same. Tells the answer."""
+    kept = copy.deepcopy(things)
+    first = function(*things)
+    test.assertEqual(things, kept)
+    expected = copy.deepcopy(first)
+    spoil(first)
+    test.assertEqual(things, kept)
+    second = function(*things)
+    test.assertEqual(second, expected)
+    if isinstance(second, list):
+        test.assertIsNot(second, first)
+    spoil(second)
+    test.assertEqual(function(*copy.deepcopy(things)), expected)
+    return expected
+
+
+def refused(test, error, function, *things):
+    """The refusal, of just this class; what is handed in stays as it was, and it is refused each time."""
+    kept = copy.deepcopy(things)
+    seen = []
+    for _ in range(2):
+        with test.assertRaises(error) as caught:
+            function(*things)
+        test.assertIs(type(caught.exception), error)
+        test.assertEqual(things, kept)
+        seen.append(caught.exception)
+    test.assertEqual(vars(seen[0]), vars(seen[1]))
+    return seen[0]

@@ -1,0 +1,60 @@
+"""The form of the package's files: LANGUAGE.md, L1 to L28."""
+
+import ast
+import pathlib
+import re
+import unittest
+
+from language import faults
+
+PACKAGE = pathlib.Path(__file__).resolve().parent.parent / "calmword"
+
+
+def files():
+    return sorted(path for path in PACKAGE.rglob("*") if path.is_file() and path.parent.name != "__pycache__")
+
+
+def drawn_from(source):
+    return sorted({node.module for node in ast.parse(source).body if isinstance(node, ast.ImportFrom)})
+
+
+class Form(unittest.TestCase):
+    def test_the_folder_holds_files_with_plain_names_alone(self):
+        self.assertIn(PACKAGE / "__init__.py", files())
+        for path in files():
+            self.assertTrue(re.fullmatch(r"__init__\.py|[a-z][a-z0-9_]*\.py", path.name), path)
+            self.assertFalse(re.match(r"test|site|conftest", path.name), path)
+
+    def test_each_file_keeps_to_the_rules(self):
+        for path in files():
+            self.assertEqual(faults(path.read_text(encoding="utf-8")), [], path.name)
+
+    def test_names_are_drawn_from_the_file_that_defines_them(self):
+        for path in files():
+            for node in ast.parse(path.read_text(encoding="utf-8")).body:
+                if isinstance(node, ast.ImportFrom):
+                    source = PACKAGE / (node.module.split(".", 1)[1] + ".py")
+                    defined = [part.name for part in ast.parse(source.read_text(encoding="utf-8")).body
+                               if isinstance(part, (ast.FunctionDef, ast.ClassDef))]
+                    for name in node.names:
+                        self.assertIn(name.name, defined, path.name)
+
+    def test_no_two_files_draw_from_one_another(self):
+        draws = {"calmword." + path.stem: drawn_from(path.read_text(encoding="utf-8")) for path in files()}
+        done = []
+        while len(done) < len(draws):
+            ready = [name for name in draws if name not in done and all(drawn in done for drawn in draws[name])]
+            self.assertTrue(ready, "files draw from one another in a ring")
+            done.extend(ready)
+
+    def test_what_lies_outside_the_rules_is_found(self):
+        for row in ("import os", "x = y = 1", "x, y = 1, 2", "x = 1.5", "def f(*xs):\n    pass",
+                    "x = [a for b in c for a in b]", "x = set(y)", "x = zip(y)", "def f():\n    print(1)", "def f(id):\n    pass", "x = y.sort()",
+                    "_x = 1", "x = (a for a in b)", "x = a is b", "x = 2 ** n", "# a type", "x = '\u00e4'",
+                    "from calmword import errors", "x = '5%'", "for x in y:\n    pass\nelse:\n    pass",
+                    "def f():\n" + "    pass\n" * 40):
+            self.assertNotEqual(faults('"""A file."""\n' + row + "\n"), [], row)
+
+
+if __name__ == "__main__":
+    unittest.main()
