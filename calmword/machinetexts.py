@@ -6,9 +6,10 @@ from calmword.machines import look_machine
 
 
 def show_machine(machine):
+    letters = machine[0]
     moves = machine[1]
     yes = machine[2]
-    rows = [f"machine {machine[0]}"]
+    rows = [f"machine {letters}"]
     for room, targets in enumerate(moves):
         words = [str(room), "yes" if yes[room] else "no"]
         words.extend([str(target) for target in targets])

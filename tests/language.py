@@ -79,6 +79,12 @@ def plain_faults(node):
         rules.append("L6")
     if isinstance(node, ast.ListComp) and (len(node.generators) > 1 or len(node.generators[0].ifs) > 1):
         rules.append("L7")
+    if isinstance(node, ast.FormattedValue) and (not isinstance(node.value, ast.Name) or node.format_spec):
+        rules.append("L7")
+    if isinstance(node, ast.ClassDef) and not all(isinstance(part, (ast.FunctionDef, ast.Pass)) for part in node.body):
+        rules.append("L5")
+    if isinstance(node, ast.Expr) and not isinstance(node.value, ast.Call) and node.lineno > 1:
+        rules.append("L6")
     if isinstance(node, ast.Constant):
         rules.extend(constant_faults(node.value))
     if isinstance(node, ast.BinOp) and isinstance(node.op, ast.Pow) and not isinstance(node.right, ast.Constant):

@@ -48,11 +48,13 @@ class Form(unittest.TestCase):
             done.extend(ready)
 
     def test_what_lies_outside_the_rules_is_found(self):
-        for row in ("import os", "x = y = 1", "x, y = 1, 2", "x = 1.5", "def f(*xs):\n    pass",
-                    "x = [a for b in c for a in b]", "x = set(y)", "x = zip(y)", "def f():\n    print(1)", "def f(id):\n    pass", "x = y.sort()",
-                    "_x = 1", "x = (a for a in b)", "x = a is b", "x = 2 ** n", "# a type", "x = '\u00e4'",
-                    "from calmword import errors", "x = '5%'", "for x in y:\n    pass\nelse:\n    pass",
-                    "def f():\n" + "    pass\n" * 40):
+        outside = [
+            "import os", "from calmword import errors", "x = y = 1", "x, y = 1, 2", "x = 1.5", "x = set(y)",
+            "x = zip(y)", "x = [a for b in c for a in b]", "x = (a for a in b)", "x = a is b", "x = 2 ** n",
+            "x = '5%'", "x = f'{y[0]}'", "x = y.sort()", "_x = 1", "# a type", "x = '\u00e4'", "def f(*xs):\n    pass",
+            "def f():\n    print(1)", "def f(id):\n    pass", "for x in y:\n    pass\nelse:\n    pass",
+            "def f():\n" + "    pass\n" * 40]
+        for row in outside:
             self.assertNotEqual(faults('"""A file."""\n' + row + "\n"), [], row)
 
 
