@@ -52,6 +52,55 @@ def chain(rooms, yes_rooms, letters="a"):
     return (letters, moves, tuple(room in yes_rooms for room in range(rooms)))
 
 
+def first_apart(one, other, left=0, right=0):
+    """The first text that leads to yes from just one of two rooms of two machines, or None: all pairs are walked."""
+    due = [(left, right, "")]
+    seen = {(left, right)}
+    for left, right, text in due:
+        if one[2][left] != other[2][right]:
+            return text
+        for letter, pair in zip(one[0], zip(one[1][left], other[1][right])):
+            if pair not in seen:
+                seen.add(pair)
+                due.append(pair + (text + letter,))
+    return None
+
+
+def rooms_come_up(machine):
+    """The rooms that come up from room 0 on, in order."""
+    rooms = [0]
+    for room in rooms:
+        rooms.extend(target for target in dict.fromkeys(machine[1][room]) if target not in rooms)
+    return rooms
+
+
+def least_plainly(machine):
+    """The least machine, by holding each room that comes up against each kept ahead of it."""
+    letters, moves, yes = machine
+    kept = []
+    number = {}
+    for room in rooms_come_up(machine):
+        same = [other for other in kept if first_apart(machine, machine, other, room) is None]
+        if not same:
+            kept.append(room)
+        number[room] = kept.index((same or [room])[0])
+    rows = tuple(tuple(number[target] for target in moves[room]) for room in kept)
+    return (letters, rows, tuple(yes[room] for room in kept))
+
+
+def blown_up(machine, seed, rooms):
+    """A machine of more rooms that lets by the same texts, its rooms mixed up, some of which don't come up."""
+    chance = random.Random(seed)
+    letters, moves, yes = machine
+    of_room = list(range(len(moves))) + [chance.randrange(len(moves)) for _ in range(rooms - len(moves))]
+    tail = of_room[1:]
+    chance.shuffle(tail)
+    of_room = [0] + tail
+    twins = [[room for room in range(rooms) if of_room[room] == old] for old in range(len(moves))]
+    rows = tuple(tuple(chance.choice(twins[target]) for target in moves[old]) for old in of_room)
+    return (letters, rows, tuple(yes[old] for old in of_room))
+
+
 def spoil(answer):
     """Changes whatever can be changed in an answer."""
     if isinstance(answer, list):
