@@ -4,16 +4,20 @@ from calmword.walks import come_up
 
 
 def least(machine):
-    letters = machine[0]
-    moves = machine[1]
-    yes = machine[2]
-    came = come_up(0, len(letters), lambda room, sign: moves[room][sign])
+    lean = least_from(machine[1], machine[2], 0)
+    return (machine[0], lean[0], lean[1])
+
+
+# Moves and yes of the least machine, as it would be if it began in the first room handed in. The signs are as many
+# as a room has moves, so they may also be marked letters.
+def least_from(moves, yes, first):
+    came = come_up(first, len(moves[0]), lambda room, sign: moves[room][sign])
     answers = [yes[room] for room in came[0]]
-    return merged(letters, came[1], answers, groups_of_rooms(came[1], answers))
+    return merged(came[1], answers, groups_of_rooms(came[1], answers))
 
 
 # The rooms are numbered as they come up, so the groups come up in the order of their first rooms.
-def merged(letters, moves, yes, groups):
+def merged(moves, yes, groups):
     numbers = {}
     first_rooms = []
     for room, group in enumerate(groups):
@@ -23,7 +27,7 @@ def merged(letters, moves, yes, groups):
     rows = []
     for room in first_rooms:
         rows.append(tuple([numbers[groups[target]] for target in moves[room]]))
-    return (letters, tuple(rows), tuple([yes[room] for room in first_rooms]))
+    return (tuple(rows), tuple([yes[room] for room in first_rooms]))
 
 
 # For each room the number of its group; rooms are in one group where no text tells them apart (Hopcroft's way:

@@ -40,11 +40,36 @@ def faults(source):
             found.append(("L3", child.lineno))
     parents = {child: node for node in ast.walk(tree) for child in ast.iter_child_nodes(node)}
     imported = [name.name for node in tree.body if isinstance(node, ast.ImportFrom) for name in node.names]
+    own = [part.name for node in tree.body if isinstance(node, ast.ClassDef) for part in node.body
+           if isinstance(part, ast.FunctionDef)]
     for node in ast.walk(tree):
         line = getattr(node, "lineno", 0)
-        rules = plain_faults(node) + name_faults(node, imported) + call_faults(node, parents)
+        rules = plain_faults(node) + name_faults(node, imported) + call_faults(node, parents, own)
         found.extend((rule, line) for rule in rules)
+    found.extend(("L15", line) for line in kept_faults(tree, parents))
     return sorted(found)
+
+
+def kept_faults(tree, parents):
+    """Lines at which a list or dict of the file's top isn't only read, or is bound twice."""
+    kept = [node.targets[0].id for node in tree.body
+            if isinstance(node, ast.Assign) and isinstance(node.value, (ast.Dict, ast.List))]
+    lines = [node.lineno for node in ast.walk(tree)
+             if isinstance(node, ast.Name) and node.id in kept and not is_only_read(node, parents)]
+    return lines + [1 for name in kept if kept.count(name) > 1]
+
+
+def is_only_read(node, parents):
+    above = parents[node]
+    if isinstance(above, ast.Assign):
+        return parents[above] not in parents
+    if isinstance(above, ast.Subscript):
+        return isinstance(above.ctx, ast.Load) and above.value is node
+    if isinstance(above, ast.Attribute):
+        return above.attr in ("get", "items", "keys", "values", "index", "count")
+    if isinstance(above, ast.Call):
+        return isinstance(above.func, ast.Name) and above.func.id in ("len", "list", "dict", "tuple", "sorted")
+    return isinstance(above, (ast.Compare, ast.For, ast.comprehension))
 
 
 def signs_and_sizes(source, tree):
@@ -135,12 +160,12 @@ def bound_name(node):
     return None
 
 
-def call_faults(node, parents):
+def call_faults(node, parents, own):
     if not isinstance(node, ast.Call):
         return []
     rules = []
     called = node.func
-    if isinstance(called, ast.Attribute) and called.attr not in METHODS:
+    if isinstance(called, ast.Attribute) and called.attr not in METHODS and called.attr not in own:
         if not (called.attr == "__init__" and isinstance(called.value, ast.Name)):
             rules.append("L25")
     if isinstance(called, ast.Name) and called.id in WALKED_AT_ONCE and not is_walked(node, parents[node]):

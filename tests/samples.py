@@ -40,6 +40,16 @@ def made_machines(seed, many, most_rooms=6, letters=("a", "ba", "ab", "xcm", "db
     return [made_machine(chance, chance.choice(letters), chance.randint(1, most_rooms)) for _ in range(many)]
 
 
+def made_pairs(seed, many, rooms):
+    """Pairs of machines of the same letters."""
+    chance = random.Random(seed)
+    pairs = []
+    for _ in range(many):
+        letters = chance.choice(("a", "ba", "cab"))
+        pairs.append([made_machine(chance, letters, chance.randint(1, rooms)) for _ in range(2)])
+    return pairs
+
+
 def ring(rooms, yes_rooms=(0,), letters="a"):
     """Every letter leads one room on, the last room's to room 0."""
     moves = tuple(((room + 1) % rooms,) * len(letters) for room in range(rooms))
@@ -86,6 +96,44 @@ def least_plainly(machine):
         number[room] = kept.index((same or [room])[0])
     rows = tuple(tuple(number[target] for target in moves[room]) for room in kept)
     return (letters, rows, tuple(yes[room] for room in kept))
+
+
+def walked(first, signs, step):
+    """How many rooms come up from the first one on."""
+    seen = {first}
+    due = [first]
+    for room in due:
+        for target in [step(room, sign) for sign in range(signs)]:
+            if target not in seen:
+                seen.add(target)
+                due.append(target)
+    return len(seen)
+
+
+def both_rooms(one, other):
+    """How many pairs come up of the least machines."""
+    left, right = least_plainly(one), least_plainly(other)
+    return walked((0, 0), len(one[0]), lambda pair, sign: (left[1][pair[0]][sign], right[1][pair[1]][sign]))
+
+
+def behind_rooms(one, other):
+    """How many rooms come up by point 12 where the one's texts go ahead of the other's."""
+    left, right = least_plainly(one), least_plainly(other)
+
+    def step(room, sign):
+        first = left[1][room[0]][sign]
+        second = {right[1][number][sign] for number in room[1]} | ({0} if left[2][first] else set())
+        return first, frozenset(second)
+
+    return walked((0, frozenset({0} if left[2][0] else ())), len(one[0]), step)
+
+
+def about_rooms(machine):
+    """How many rooms come up by point 12 where texts are turned about."""
+    letters, moves, yes = least_plainly(machine)
+    first = frozenset(room for room in range(len(yes)) if yes[room])
+    return walked(first, len(letters), lambda rooms, sign: frozenset(
+        room for room in range(len(moves)) if moves[room][sign] in rooms))
 
 
 def blown_up(machine, seed, rooms):

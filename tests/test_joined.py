@@ -7,30 +7,11 @@ import unittest
 from calmword.errors import OtherLetters, TooMany
 from calmword.joined import both_of, either_of, no_of
 from calmword.least import least
-from samples import ENDS_AB, EVEN_A, EVERY, JUST_AB, NONE, blown_up, chain, holds_to_point_2, least_plainly
-from samples import made_machine, made_machines, refused, ring, rooms_come_up, texts_of, texts_to
+from samples import ENDS_AB, EVEN_A, EVERY, JUST_AB, NONE, blown_up, both_rooms, chain, holds_to_point_2
+from samples import least_plainly, made_machine, made_machines, made_pairs, refused, ring, rooms_come_up, texts_of
+from samples import texts_to
 
 TWO = (both_of, either_of)
-
-
-def made_pairs(seed, many, rooms):
-    chance = random.Random(seed)
-    pairs = []
-    for _ in range(many):
-        letters = chance.choice(("a", "ba", "cab"))
-        pairs.append([made_machine(chance, letters, chance.randint(1, rooms)) for _ in range(2)])
-    return pairs
-
-
-def pairs_that_come_up(one, other):
-    one = least_plainly(one)
-    other = least_plainly(other)
-    pairs = [(0, 0)]
-    for left, right in pairs:
-        for pair in zip(one[1][left], other[1][right]):
-            if pair not in pairs:
-                pairs.append(pair)
-    return len(pairs)
 
 
 class No(unittest.TestCase):
@@ -107,7 +88,7 @@ class BothAndEither(unittest.TestCase):
 
     def test_too_many_from_one_more_than_most_on(self):
         for one, other in made_pairs(45, 30, 6):
-            count = pairs_that_come_up(one, other)
+            count = both_rooms(one, other)
             for function in TWO:
                 told = function(one, other, count)
                 self.assertEqual(told, function(one, other, count + 1))

@@ -53,9 +53,29 @@ class Form(unittest.TestCase):
             "x = zip(y)", "x = [a for b in c for a in b]", "x = (a for a in b)", "x = a is b", "x = 2 ** n",
             "x = '5%'", "x = f'{y[0]}'", "x = y.sort()", "_x = 1", "# a type", "x = '\u00e4'", "def f(*xs):\n    pass",
             "def f():\n    print(1)", "def f(id):\n    pass", "for x in y:\n    pass\nelse:\n    pass",
-            "def f():\n" + "    pass\n" * 40]
+            "def f():\n" + "    pass\n" * 40, "x = {}\ndef f():\n    x[1] = 2", "x = {}\ndef f():\n    return x",
+            "x = []\ndef f():\n    x.append(1)", "x = []\ndef f():\n    g(x)", "x = {}\nx = []",
+            "def f(x):\n    x.fits(1)"]
         for row in outside:
             self.assertNotEqual(faults('"""A file."""\n' + row + "\n"), [], row)
+
+    def test_what_lies_within_the_rules_is_let_by(self):
+        within = [
+            "x = {'a': (1,)}\ndef f(y):\n    return x[y] if y in x else x.get(0)", "x = [1]\ndef f():\n    return list(x)",
+            "class C:\n    def fits(self):\n        return True\ndef f():\n    return C().fits()",
+            "def f(xs):\n    return [x for x in xs if x > 1]"]
+        for row in within:
+            self.assertEqual(faults('"""A file."""\n' + row + "\n"), [], row)
+
+    def test_no_name_is_a_method_in_one_class_and_a_value_in_another(self):
+        methods, values = set(), set()
+        for path in files():
+            for node in ast.walk(ast.parse(path.read_text(encoding="utf-8"))):
+                if isinstance(node, ast.ClassDef):
+                    methods.update(part.name for part in node.body if isinstance(part, ast.FunctionDef))
+                if isinstance(node, ast.Attribute) and isinstance(node.ctx, ast.Store):
+                    values.add(node.attr)
+        self.assertEqual(methods & values, set())
 
 
 if __name__ == "__main__":
