@@ -61,7 +61,8 @@ class Form(unittest.TestCase):
 
     def test_what_lies_within_the_rules_is_let_by(self):
         within = [
-            "x = {'a': (1,)}\ndef f(y):\n    return x[y] if y in x else x.get(0)", "x = [1]\ndef f():\n    return list(x)",
+            "x = {'a': (1,)}\ndef f(y):\n    return x[y] if y in x else x.get(0)",
+            "x = [1]\ndef f():\n    return list(x)",
             "class C:\n    def fits(self):\n        return True\ndef f():\n    return C().fits()",
             "def f(xs):\n    return [x for x in xs if x > 1]"]
         for row in within:
