@@ -1,9 +1,8 @@
 """Expressions written as texts, and read from them."""
 
-from calmword.errors import BadText, TooLong
+from calmword.errors import BadText
 from calmword.expressions import tidied
-
-MOST_SIGNS = 100000
+from calmword.written import written
 
 # How much each word binds; an open bracket binds nothing of what stands ahead of it.
 BINDS = {"(": -1, "or": 0, "and": 1, "behind": 2, "not": 3, "letter": 4, "blank": 4, "nothing": 4}
@@ -12,24 +11,10 @@ WORDS = {"|": "or", "&": "and"}
 
 
 def show_expression(expression):
-    if signs_of(expression) > MOST_SIGNS:
-        raise TooLong()
-    written = []
-    due = [(len(expression) - 1, 0)]
-    while due:
-        piece = due.pop()
-        if isinstance(piece, str):
-            written.append(piece)
-            continue
-        pieces = pieces_of(expression[piece[0]])
-        if needs_brackets(expression, piece):
-            pieces = ["("] + pieces + [")"]
-        due.extend(list(reversed(pieces)))
-    return "".join(written)
+    return written(expression, lambda row: pieces_of(expression, row))
 
 
-# Texts, and tuples (number of a row, how much it must bind to stand there without brackets).
-def pieces_of(row):
+def pieces_of(expression, row):
     word = row[0]
     if word == "letter":
         return [row[1]]
@@ -39,26 +24,15 @@ def pieces_of(row):
         return ["0"]
     binds = BINDS[word]
     if word == "not":
-        return ["-", (row[1], binds)]
-    return [(row[1], binds), SIGNS[word], (row[2], binds + 1)]
+        return ["-"] + bound_part(expression, row[1], binds)
+    # What binds as much goes from the left, so at the right it stands in brackets.
+    return bound_part(expression, row[1], binds) + [SIGNS[word]] + bound_part(expression, row[2], binds + 1)
 
 
-def needs_brackets(expression, piece):
-    return BINDS[expression[piece[0]][0]] < piece[1]
-
-
-# Row by row, since put together the text may be without measure; what is too long stays just too long.
-def signs_of(expression):
-    counts = []
-    for row in expression:
-        count = 0
-        for piece in pieces_of(row):
-            if isinstance(piece, str):
-                count += len(piece)
-            else:
-                count += counts[piece[0]] + (2 if needs_brackets(expression, piece) else 0)
-        counts.append(min(count, MOST_SIGNS + 1))
-    return counts[-1]
+def bound_part(expression, number, binds):
+    if BINDS[expression[number][0]] < binds:
+        return ["(", number, ")"]
+    return [number]
 
 
 # Each beginning in which every sign fits can go on to a text of an expression.

@@ -31,8 +31,14 @@ NAMES_NOT_USED = set(
 TWO_UNDERSCORES = ("__init__", "__eq__", "__repr__", "__str__", "__len__")
 
 
-def faults(source):
-    """Tuples (rule, line) of what is found outside the rules."""
+def methods_of(source):
+    """The names of the methods of the file's own classes."""
+    return [part.name for node in ast.parse(source).body if isinstance(node, ast.ClassDef) for part in node.body
+            if isinstance(part, ast.FunctionDef)]
+
+
+def faults(source, methods=()):
+    """Tuples (rule, line) of what is found outside the rules; methods are those of the package's other files."""
     tree = ast.parse(source)
     found = signs_and_sizes(source, tree)
     for child in tree.body[1:]:
@@ -40,8 +46,7 @@ def faults(source):
             found.append(("L3", child.lineno))
     parents = {child: node for node in ast.walk(tree) for child in ast.iter_child_nodes(node)}
     imported = [name.name for node in tree.body if isinstance(node, ast.ImportFrom) for name in node.names]
-    own = [part.name for node in tree.body if isinstance(node, ast.ClassDef) for part in node.body
-           if isinstance(part, ast.FunctionDef)]
+    own = methods_of(source) + list(methods)
     for node in ast.walk(tree):
         line = getattr(node, "lineno", 0)
         rules = plain_faults(node) + name_faults(node, imported) + call_faults(node, parents, own)

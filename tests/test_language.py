@@ -5,7 +5,7 @@ import pathlib
 import re
 import unittest
 
-from language import faults
+from language import faults, methods_of
 
 PACKAGE = pathlib.Path(__file__).resolve().parent.parent / "calmword"
 
@@ -26,16 +26,18 @@ class Form(unittest.TestCase):
             self.assertFalse(re.match(r"test|site|conftest", path.name), path)
 
     def test_each_file_keeps_to_the_rules(self):
+        methods = [name for path in files() for name in methods_of(path.read_text(encoding="utf-8"))]
         for path in files():
-            self.assertEqual(faults(path.read_text(encoding="utf-8")), [], path.name)
+            self.assertEqual(faults(path.read_text(encoding="utf-8"), methods), [], path.name)
 
     def test_names_are_drawn_from_the_file_that_defines_them(self):
         for path in files():
             for node in ast.parse(path.read_text(encoding="utf-8")).body:
                 if isinstance(node, ast.ImportFrom):
                     source = PACKAGE / (node.module.split(".", 1)[1] + ".py")
-                    defined = [part.name for part in ast.parse(source.read_text(encoding="utf-8")).body
-                               if isinstance(part, (ast.FunctionDef, ast.ClassDef))]
+                    top = ast.parse(source.read_text(encoding="utf-8")).body
+                    defined = [part.name for part in top if isinstance(part, (ast.FunctionDef, ast.ClassDef))]
+                    defined += [part.targets[0].id for part in top if isinstance(part, ast.Assign)]
                     for name in node.names:
                         self.assertIn(name.name, defined, path.name)
 
