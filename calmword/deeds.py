@@ -41,23 +41,27 @@ def told_apart(machine, one, other):
     return (first_ways(lean[0], lean[1])[room], apart(lean, one[room], other[room]))
 
 
+# By room, how often the deed leads it on to another one until it stays. Each way is walked up to a room that is known
+# already; one that comes back to itself goes round without end.
 def stand_of(deed):
-    longest = 1
+    steps = dict([(room, 0) for room in range(len(deed)) if deed[room] == room])
     for room in range(len(deed)):
-        steps = steps_to_stand(deed, room)
-        if steps is None:
+        way = way_to_known(deed, room, steps)
+        if way is None:
             return None
-        longest = max(longest, steps)
-    return longest
+        for passed in reversed(way):
+            steps[passed] = steps[deed[passed]] + 1
+    return max(1, max(steps.values()))
 
 
-# How often the deed leads the room on to another one; None where it leads round without end.
-def steps_to_stand(deed, room):
-    for steps in range(len(deed)):
-        if deed[room] == room:
-            return steps
+def way_to_known(deed, room, known):
+    way = {}
+    while room not in known:
+        if room in way:
+            return None
+        way[room] = True
         room = deed[room]
-    return None
+    return list(way)
 
 
 def calm(machine):

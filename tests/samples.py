@@ -149,6 +149,54 @@ def blown_up(machine, seed, rooms):
     return (letters, rows, tuple(yes[old] for old in of_room))
 
 
+def deed_plainly(machine, text):
+    """What the text does to the rooms of a machine that is the least one."""
+    letters, moves, _ = machine
+    rooms = []
+    for room in range(len(moves)):
+        for sign in text:
+            room = moves[room][letters.index(sign)]
+        rooms.append(room)
+    return tuple(rooms)
+
+
+def stand_plainly(deed):
+    """All times up to twice as many as rooms are tried."""
+    powers = [deed]
+    for _ in range(2 * len(deed) + 1):
+        powers.append(tuple(deed[room] for room in powers[-1]))
+    stands = [n + 1 for n in range(len(powers) - 1) if powers[n] == powers[n + 1]]
+    return stands[0] if stands else None
+
+
+def lines(sizes, sink=False):
+    """Each letter leads from room 0 into a line of its own, through which that letter alone leads; a last letter, if
+    asked for, leads from everywhere to a room from which no text leads to yes."""
+    letters = "abcd"[:len(sizes) + (1 if sink else 0)]
+    starts = [1 + sum(sizes[:spot]) for spot in range(len(sizes))]
+    rooms = 1 + sum(sizes)
+    moves = [list(starts)]
+    yes = [False]
+    for spot, size in enumerate(sizes):
+        for step in range(size):
+            row = [starts[spot] + step] * len(sizes)
+            row[spot] = starts[spot] + min(step + 1, size - 1)
+            moves.append(row)
+            yes.append(step == size - 1)
+    if sink:
+        moves = [row + [rooms] for row in moves] + [[rooms] * len(letters)]
+        yes.append(False)
+    return (letters, tuple(tuple(row) for row in moves), tuple(yes))
+
+
+# Its least machine has just 2,000 deeds; with one more letter, to a room for good, 2,001.
+JUST_2000 = lines((4, 13, 13))
+JUST_2001 = lines((4, 13, 13), sink=True)
+# Two letters that change rooms of a ring about make very many deeds.
+VERY_MANY = ("ab", tuple(((room + 1) % 9, (1, 0)[room] if room < 2 else room) for room in range(9)),
+             (True,) + (False,) * 8)
+
+
 def spoil(answer):
     """Changes whatever can be changed in an answer."""
     if isinstance(answer, list):

@@ -68,6 +68,11 @@ def behind_rows(rows, more):
     return rows + tuple(tuple(thing + len(rows) if isinstance(thing, int) else thing for thing in row) for row in more)
 
 
+# At least 19 a and at least 20 b: at the last row 420 rooms come up.
+OVER_400 = behind_rows(at_least("a", 19), at_least("b", 20))
+OVER_400 += (("and", len(at_least("a", 19)) - 1, len(OVER_400) - 1),)
+
+
 def names_by_row(saying):
     names = []
     for row in saying:
@@ -112,6 +117,12 @@ def made_sayings(seed, many, most_rows, letters=("a", "ba", "cab")):
         signs = chance.choice(letters)
         made.append((signs, made_saying(chance, signs, chance.randint(1, most_rows))))
     return made
+
+
+def closed_sayings(seed, many, letters):
+    """The first so many closed ones of those that are drawn."""
+    found = [saying for _, saying in made_sayings(seed, 12 * many, 12, (letters,)) if not names_by_row(saying)[-1]]
+    return found[:many]
 
 
 def holds_plainly(saying, text, places, at=-1):

@@ -15,6 +15,10 @@ BEGINS_A = (NOTHING, ("not", 0), A, ("behind", 2, 1))
 HAS_AB = (NOTHING, ("not", 0), A, B, ("behind", 2, 3), ("behind", 1, 4), ("behind", 5, 1))
 NO_B = (NOTHING, ("not", 0), B, ("behind", 1, 2), ("behind", 3, 1), ("not", 4))
 
+# All, then a, then nine letters: a machine of 1,024 rooms.
+NINE_BEHIND = (NOTHING, ("not", 0), A, ("behind", 1, 2), B, ("or", 2, 4), ("behind", 3, 5)) + tuple(
+    ("behind", at, 5) for at in range(6, 14))
+
 
 def doubled(first, word, rows):
     """Each row is the word of the one ahead and itself: put together, without measure."""

@@ -175,7 +175,8 @@ class Read(unittest.TestCase):
             self.assertEqual(read_saying(f"each {name} yes"), (YES, ("each", name, 0)))
             self.assertEqual(read_saying(f"some {name} not {name} is {name[0]}"),
                              (("is", name, name[0]), ("not", 0), ("some", name, 1)))
-        for word in ("yes", "is", "not", "and", "or", "some", "each", "ahead", "abcd", "X", "x1", "x<y", "<", "-", "a_"):
+        for word in ("yes", "is", "not", "and", "or", "some", "each", "ahead", "abcd", "X", "x1", "x<y", "<", "-",
+                     "a_"):
             self.assertEqual(refused(self, BadText, read_saying, f"some {word} yes").at, 1, word)
             self.assertEqual(refused(self, BadText, read_saying, f"x < {word}").at, 2, word)
             self.assertEqual(refused(self, BadText, read_saying, f"x is {word}").at, 2, word)
