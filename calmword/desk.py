@@ -92,10 +92,8 @@ def read_thing(letters, sort, text):
     return saying
 
 
-# A line feed itself parts no rows here: it is exchanged for a sign that fits nowhere.
 def read_desk_machine(letters, text):
-    rows = [row.replace("\n", "/") for row in text.split("/")]
-    machine = read_machine("\n".join(rows))
+    machine = read_machine(text.replace("/", "\n"))
     if machine[0] != letters:
         raise OtherLetters()
     return machine

@@ -138,8 +138,8 @@ class Holds(unittest.TestCase):
         machine = ("a", ((1,), (2,), (3,), (4,), (5,), (3,)), (True, False, False, False, False, True))
         for first, rest in ((1, (False, False, False, False, True)), (1, (False, False, True)),
                             (2, (False, False, True)), (0, (True, False, False)), (3, (False, False, True)),
-                            (5, (True, False, False)),
-                            (4, (False, True, False)), (200, (True, False, False)), (200, (False, False, True))):
+                            (5, (True, False, False)), (4, (False, True, False)), (200, (True, False, False)),
+                            (200, (False, False, True))):
             told = ("", "a", "", first, rest)
             self.assertIs(counting_holds(machine, told), holds_plainly(machine, told), told)
         self.assertIs(counting_holds(machine, ("", "a", "", 3, (False, False, True))), True)

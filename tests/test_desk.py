@@ -305,8 +305,7 @@ class Reading(Case):
                          ("machine ab/0 yes 0", 1), ("machine ab/0 yes 0 0/", 2), ("machine ab//0 yes 0 0", 1),
                          ("machine ab/0 yes 0 0/2 no 0 0", 2), ("machine ab /0 yes 0 0", 0),
                          (" machine ab/0 yes 0 0", 0), ("machine ab/0 yes 0 0 ", 1), ("machine ab/0 maybe 0 0", 1),
-                         ("machine ab\n0 yes 0 0", 0),
-                         ("machine ab/0 yes 0 0\n1 no 0 0", 1), ("/", 0)):
+                         ("/", 0)):
             self.assertEqual(self.refused(desk, BadText, "machine new " + text).at, at, text)
         self.assertEqual(self.refused(desk, BadRoom, "machine new machine ab/0 yes 0 1").room, 0)
         self.assertEqual(self.refused(desk, BadRoom, "machine new machine ab/0 yes 0 1/1 no 0 7").room, 1)
